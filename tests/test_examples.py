@@ -1,0 +1,18 @@
+"""The examples of the document, as they stand there."""
+
+import doctest
+import pathlib
+import unittest
+
+FOLDER = pathlib.Path(__file__).parent / "examples"
+MANY = {"section_4.txt": 10, "section_5.txt": 8, "section_6.txt": 10, "section_7.txt": 10}
+
+
+class Examples(unittest.TestCase):
+
+    def test_each_example_tells_what_the_document_tells(self):
+        self.assertEqual(sorted(path.name for path in FOLDER.iterdir()), sorted(MANY))
+        for name, many in MANY.items():
+            with self.subTest(name):
+                told = doctest.testfile(str(FOLDER / name), module_relative=False)
+                self.assertEqual((told.failed, told.attempted), (0, many))
