@@ -1,4 +1,4 @@
-"""What several tests need: strict comparison, wrong values of any kind, plans at random, all ways."""
+"""What several tests need: strict comparison, wrong values of any kind, plans by a rule, all ways."""
 
 import copy
 import itertools
@@ -6,6 +6,7 @@ import unittest
 
 from timesover.errors import OverError
 from timesover.plans import Plan
+from timesover.sound import soundness
 
 
 def nested(depth):
@@ -21,6 +22,25 @@ NEVER = (
     None, True, False, 0, 1, 2, 5, -1, 10 ** 39, "", "a", "zz", "+", "kept", "0", [], {}, {"a": 1}, [0], [1, 2],
     [("+", 0)], {0: 1}, (None,), (True,), (False,), (-1,), ("",), ("zz",), ([],), ({},), ((None,),), (("zz", 0),),
     nested(2), nested(59), Plan("place q 1"), (Plan("place q 1"),), [Plan("place q 1")],
+)
+
+# Of a plan with the places a and c of depth 1 and b of depth 2, and no other ones.
+NO_NAMES = tuple(value for value in NEVER if value != "a") + ("A", "d", "a ", " a", "ab", ("a",), ["a"], "a\n")
+NO_POINTS = NEVER + (
+    (), ("a",), ("a", (0,), 0), ("a", (0, 0)), ("b", (0,)), ("d", (0,)), ("a", 0), ("a", [0]), ["a", (0,)],
+    ("a", (True,)), ("a", (-1,)), ("a", ()), ("a", None), ((0,), "a"), (("a",), (0,)), (["a"], (0,)), (1, (0,)),
+    (True, (0,)), (None, (0,)), ("", (0,)), ("a", ("0",)), ("a", ((0,),)), ("a", (0,) * 5), (Plan("place a 1"), (0,)),
+    {"a": (0,)},
+)
+NO_WORKS = NEVER + (
+    ("a", (0,)), [("a", (0,))], (("b", (0, 0)), ("a", (0,))), (("a", (1,)), ("a", (0,))), (("a", (True,)),),
+    (("a", (0,)), None), (None, ("a", (0,))), (["a", (0,)],), (("a", [0]),), (("a", (0, 0)),), (("d", (0,)),),
+    (("a", (-1,)),), {("a", (0,)): 1}, (("a", (0,), 0),), ((("a", (0,)),),), (("a", (2,)), ("a", (10,)), ("a", (9,))),
+    (("a", (0,)), ("a", (0,)), 0), (("a", (0,)), ("a", (False,))),
+)
+NO_TIMES_AT_B = NEVER + (
+    (), (0,), (0, 0, 0), [0, 0], (True, 0), (0, False), (-1, 0), (0, -1), ("0", 0), ((0,), 0), (0, None), (0, [0]),
+    ("b", (0, 0)), ((0, 0),), {0: 0, 1: 0},
 )
 
 
@@ -49,6 +69,36 @@ class Case(unittest.TestCase):
         self.assertIs(type(caught.exception), error)
         self.alike(caught.exception.value, value)
         self.assertTrue(is_alike(before, (arguments, named)))
+
+    def refuses_in_order(self, function, rights, wrongs):
+        """Each wrong argument is refused, and of two of them the one that stands first among wrongs.
+
+        A row of wrongs: the number of the argument, the error, the wrong value, the value that the error keeps.
+        """
+        for at, (place, error, value, kept) in enumerate(wrongs):
+            arguments = list(rights)
+            arguments[place] = value
+            self.refuses(error, kept, function, *arguments)
+            for other, _, far, _ in wrongs[at + 1:]:
+                if other != place:
+                    self.refuses(error, kept, function, *arguments[:other], far, *arguments[other + 1:])
+
+
+class Picks:
+    """Picks that only look as if they were at random: each follows, by this rule, from the ones ahead of it."""
+
+    def __init__(self, seed):
+        self.state = seed
+
+    def randrange(self, many):
+        self.state = (self.state * 6364136223846793005 + 1442695040888963407) % 2 ** 64
+        return (self.state >> 33) % many
+
+    def randint(self, low, high):
+        return low + self.randrange(high - low + 1)
+
+    def choice(self, rows):
+        return rows[self.randrange(len(rows))]
 
 
 def all_times(depth, below):
@@ -81,6 +131,54 @@ def random_plan(rng, most_places=3, most_depth=2, most_lines=4, numbers=(0, 0, 1
         words = " ".join(sign + str(rng.choice(numbers)) for sign in signs)
         rows.append(f"line {'abcdef'[start]} {'abcdef'[end]} {words}")
     return Plan("\n".join(rows))
+
+
+def some_plans(seed, many, **limits):
+    """So many small plans by a rule."""
+    picks = Picks(seed)
+    return [random_plan(picks, **limits) for _ in range(many)]
+
+
+def sound_plans(seed, many, **limits):
+    """So many small sound plans by a rule."""
+    picks = Picks(seed)
+    plans = []
+    while len(plans) < many:
+        plan = random_plan(picks, **limits)
+        if soundness(plan) == ("sound",):
+            plans.append(plan)
+    return plans
+
+
+def forked_plan(forks, rows=()):
+    """A plan with a row of places; each fork is so many lines on; together they make as many shifts as can be.
+
+    The two parts of what all these ways add have the same sum, so none of them is below another one.
+    """
+    text = [f"place {letter} 2" for letter in "abcdefghijkl"[:len(forks) + 1]]
+    weight = 2
+    for start, end, many in zip("abcdefghijkl", "bcdefghijkl", forks):
+        text += [f"line {start} {end} +{weight * at} +{weight * (many - 1 - at)}" for at in range(many)]
+        weight *= many
+    return Plan("\n".join(text + list(rows)))
+
+
+# From a to f there are 2, 200 and 201 least shifts; all other tables are smaller.
+NARROW = forked_plan((2, 1, 1, 1, 1))
+FULL = forked_plan((2, 2, 2, 5, 5))
+WIDE = forked_plan((2, 2, 2, 5, 5), ["line a f +1 +397"])
+
+
+def points_of(plan, below):
+    """All points of the plan with parts below the number."""
+    return [(name, time) for name, depth in plan.places for time in all_times(depth, below)]
+
+
+def some_works(picks, plan, most, below=4):
+    """At most so many works, some of them at one point, with parts below the number."""
+    points = points_of(plan, below)
+    works = [picks.choice(points) for _ in range(picks.randint(0, most))]
+    return tuple(sorted(works + works[:picks.randint(0, 1)]))
 
 
 def enough_lines(plan):

@@ -5,7 +5,10 @@ import pathlib
 import unittest
 
 FOLDER = pathlib.Path(__file__).parent / "examples"
-MANY = {"section_4.txt": 10, "section_5.txt": 8, "section_6.txt": 10, "section_7.txt": 10}
+MANY = {
+    "section_4.txt": 10, "section_5.txt": 8, "section_6.txt": 10, "section_7.txt": 10, "section_8.txt": 11,
+    "section_9.txt": 7, "section_10.txt": 16, "section_11.txt": 10,
+}
 
 
 class Examples(unittest.TestCase):

@@ -4,7 +4,8 @@ import importlib
 import inspect
 import unittest
 
-import timesover.plans
+from timesover.bells import Bell
+from timesover.crews import Crew
 from timesover.plans import Plan
 
 PARAMETERS = {
@@ -31,6 +32,33 @@ PARAMETERS = {
         "led_trace": "trace shift", "traces": "plan one other", "ring_time": "plan place way", "soundness": "plan",
         "shows_soundness": "plan value", "staying_lines": "plan",
     },
+    "fronts": {
+        "front_of": "plan works place", "fronts_of": "plan works", "is_over": "plan works place time",
+        "holders_of": "plan works place time", "front_reasons": "plan works place",
+        "shows_front_reasons": "plan works place value", "common_front": "plan works place",
+        "fronts_without": "plan works work", "least_works": "plan works", "same_fronts": "plan one other",
+        "shows_same_fronts": "plan one other value",
+    },
+    "crews": {
+        "check_deed": "plan taken put", "deed_changes": "plan taken put", "counts_behind": "crew deeds",
+    },
+    "books": {
+        "first_book": "crew hand", "took": "crew book taken put", "beat": "crew book",
+        "heard": "crew book hand telling", "come": "crew book hand", "front": "crew book place",
+        "over": "crew book place time",
+    },
+    "bells": {
+        "due_times": "crew book place times", "joined_rings": "rings",
+    },
+}
+# For each class its file, its parameters, an object, what is set on it, its methods with their parameters.
+PLAN = Plan("place a 1")
+CREW = Crew(PLAN, "hands 2")
+CLASSES = {
+    Plan: ("plans", "text", PLAN, "text places lines", {"__len__": "", "__contains__": "value", "__eq__": "other"}),
+    Crew: ("crews", "plan text", CREW, "plan text hands works", {"__eq__": "other"}),
+    Bell: ("bells", "crew place", Bell(CREW, "a"), "crew place waiting told open_times",
+           {"put": "time number", "ring": "book", "copy": ""}),
 }
 
 
@@ -47,14 +75,17 @@ class Interface(unittest.TestCase):
                     self.assertIs(parameter.kind, inspect.Parameter.POSITIONAL_OR_KEYWORD)
                     self.assertIs(parameter.default, inspect.Parameter.empty)
 
-    def test_plan_is_a_class_of_its_file_with_its_own_methods(self):
-        self.assertIs(timesover.plans.Plan, Plan)
-        self.assertEqual((Plan.__module__, Plan.__bases__), ("timesover.plans", (object,)))
-        self.assertEqual(list(inspect.signature(Plan).parameters), ["text"])
-        for name in ("__init__", "__len__", "__contains__", "__eq__"):
-            self.assertIn(name, vars(Plan))
+    def test_each_class_is_defined_in_its_file_with_its_own_methods(self):
+        for kind, (module, parameters, thing, _, methods) in CLASSES.items():
+            self.assertIs(getattr(importlib.import_module("timesover." + module), kind.__name__), kind)
+            self.assertEqual((kind.__module__, kind.__bases__), ("timesover." + module, (object,)))
+            self.assertEqual(list(inspect.signature(kind).parameters), parameters.split())
+            self.assertIs(type(thing), kind)
+            for name, asked in {"__init__": parameters, **methods}.items():
+                self.assertIn(name, vars(kind))
+                self.assertEqual(list(inspect.signature(vars(kind)[name]).parameters), ["self", *asked.split()])
 
-    def test_what_is_listed_for_a_plan_is_set_when_it_is_created(self):
-        plan = Plan("place a 1")
-        for name in ("text", "places", "lines"):
-            self.assertIn(name, vars(plan))
+    def test_what_is_listed_for_a_class_is_set_when_an_object_is_created(self):
+        for kind, (_, _, thing, names, _) in CLASSES.items():
+            for name in names.split():
+                self.assertIn(name, vars(thing), kind.__name__)

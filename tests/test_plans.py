@@ -3,7 +3,7 @@
 import itertools
 import random
 
-from support import NEVER, Case, all_times, random_plan
+from support import NEVER, NO_NAMES, NO_POINTS, Case, all_times, random_plan
 from timesover.errors import BadName, BadNames, BadPlan, BadPoint
 from timesover.plans import (
     Plan, can_put, depth_of, is_point, led_places, lines_from, lines_putting, lines_to,
@@ -14,13 +14,6 @@ from timesover.times import is_before
 ROWS = ["place a 1", "place b 2", "place c 1", "line a b +0 =0", "line b b +0 +1", "line b c +0", "line c a +1"]
 PLAN = Plan("\n".join(ROWS))
 LETTERS = "abcdefghijklmnopqrstuvwxyz"
-NO_NAMES = tuple(value for value in NEVER if value != "a") + ("A", "d", "a ", " a", "ab", ("a",), ["a"], "a\n")
-NO_POINTS = NEVER + (
-    (), ("a",), ("a", (0,), 0), ("a", (0, 0)), ("b", (0,)), ("d", (0,)), ("a", 0), ("a", [0]), ["a", (0,)],
-    ("a", (True,)), ("a", (-1,)), ("a", ()), ("a", None), ((0,), "a"), (("a",), (0,)), (["a"], (0,)), (1, (0,)),
-    (True, (0,)), (None, (0,)), ("", (0,)), ("a", ("0",)), ("a", ((0,),)), ("a", (0,) * 5), (Plan("place a 1"), (0,)),
-    {"a": (0,)},
-)
 
 
 def places_text(many):

@@ -3,7 +3,7 @@
 import itertools
 import random
 
-from support import NEVER, Case, all_times, all_ways, enough_lines, random_plan
+from support import NEVER, NO_POINTS, Case, all_ways, enough_lines, forked_plan, points_of, random_plan
 from timesover.errors import BadName, BadPoint, TooMany
 from timesover.plans import Plan
 from timesover.shifts import is_below, joined_shift, kept_shift, least_shifts, shifted
@@ -13,31 +13,12 @@ from timesover.ways import way_shift
 
 ROWS = ["place a 1", "place b 2", "place c 1", "line a b +0 =0", "line b b +0 +1", "line b c +0", "line c a +1"]
 PLAN = Plan("\n".join(ROWS))
-NO_POINTS = NEVER + (("a", (0, 0)), ("b", (0,)), ("d", (0,)), ["a", (0,)], ("a", [0]), ("a", (True,)), ("a", (-1,)), ())
-
-
-def forked_plan(forks, rows=()):
-    """A plan with a row of places; each fork is so many lines on; together they make as many shifts as can be.
-
-    The two parts of what all these ways add have the same sum, so none of them is below another one.
-    """
-    text = [f"place {letter} 2" for letter in "abcdefghijkl"[:len(forks) + 1]]
-    weight = 2
-    for start, end, many in zip("abcdefghijkl", "bcdefghijkl", forks):
-        text += [f"line {start} {end} +{weight * at} +{weight * (many - 1 - at)}" for at in range(many)]
-        weight *= many
-    return Plan("\n".join(text + list(rows)))
 
 
 def plans(seed, many, **limits):
     """So many plans at random, always the same ones."""
     rng = random.Random(seed)
     return [random_plan(rng, **limits) for _ in range(many)]
-
-
-def points_of(plan, below):
-    """All points of the plan with parts below the number."""
-    return [(name, time) for name, depth in plan.places for time in all_times(depth, below)]
 
 
 def long_ways(plan, place):
@@ -256,7 +237,8 @@ class Shown(Case):
             (), ("way",), ("way", (2, 3), 0), ["way", (2, 3)], ("way", [2, 3]), ("way", (2,)), ("way", ()),
             ("way", (2, 3, 0, 2)), ("way", (2, 3, 0, 2, 3)), ("way", (2, "3")), ("way", (2, True)),
             ("way", (True, 2, 3)), ("way", (3,)), ("way", (2, -1)), ("way", (2, 3, -4, -2, -1)), ("way", (2, None)),
-            ("way", (2, 4)), ("way", 2), ("way", None), ("way", "23"), ("way", ((2, 3),)), ("way", {2: 3}), ("way", PLAN), ("ways", (2, 3)),
+            ("way", (2, 4)), ("way", 2), ("way", None), ("way", "23"), ("way", ((2, 3),)), ("way", {2: 3}),
+            ("way", PLAN), ("ways", (2, 3)),
             ("barred", (2, 3)), ("barred", ((("+", 1),),)), ("barred", ()), ((2, 3), "way"), (None, (2, 3)),
             (["way"], (2, 3)),
         )

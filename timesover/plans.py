@@ -1,7 +1,7 @@
 """Plans: places, each with a depth, and lines between them, each with a shift."""
 
 from timesover.basics import is_name, is_numeral
-from timesover.errors import BadName, BadNames, BadPlan, BadPoint
+from timesover.errors import BadName, BadNames, BadPlan, BadPoint, BadTime, BadWorks
 from timesover.shifts import time_behind
 from timesover.times import is_at_most, is_time
 
@@ -85,9 +85,7 @@ def is_point(plan, value):
 
 def can_put(plan, point, other):
     """Whether a work at the point can put one at the other point."""
-    if len(lines_putting(plan, point, other)) > 0:
-        return True
-    return point[0] == other[0] and point[1] != other[1] and is_at_most(point[1], other[1])
+    return len(lines_putting(plan, point, other)) > 0 or is_later(point, other)
 
 
 def lines_putting(plan, point, other):
@@ -136,6 +134,30 @@ def check_point(plan, value):
     """Raises BadPoint unless value is a point of the plan."""
     if not is_point(plan, value):
         raise BadPoint(value)
+
+
+def check_time_at(plan, place, value):
+    """Raises BadTime unless value is a time of this place, which is known to be one of the plan."""
+    if not is_point(plan, (place, value)):
+        raise BadTime(value)
+
+
+def are_works(plan, value):
+    """Whether any value is an ascending tuple of points of the plan, in which points may stand several times."""
+    if not isinstance(value, tuple) or not all([is_point(plan, point) for point in value]):
+        return False
+    return list(value) == sorted(value)
+
+
+def check_works(plan, value):
+    """Raises BadWorks unless value is an ascending tuple of points of the plan."""
+    if not are_works(plan, value):
+        raise BadWorks(value)
+
+
+def is_later(point, other):
+    """Whether the other point is at the same place at a later time."""
+    return point[0] == other[0] and point[1] != other[1] and is_at_most(point[1], other[1])
 
 
 def are_names(plan, value):

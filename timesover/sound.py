@@ -1,6 +1,6 @@
 """Sound plans: whether each ring raises some part of the times."""
 
-from timesover.errors import BadShift, BadTrace, BadWay
+from timesover.errors import BadShift, BadTrace, BadWay, NotSound
 from timesover.plans import check_place, depth_of, is_point, lines_from
 from timesover.shifts import is_shift, leads_from, time_behind
 from timesover.times import is_at_most
@@ -66,6 +66,13 @@ def staying_lines(plan):
     """The numbers of the lines that lie on a ring which raises no part."""
     # A ring that raises no part raises none wherever it is begun: so each line is tried as the first one.
     return tuple([number for number in range(len(plan.lines)) if is_staying(plan, number)])
+
+
+def check_sound(plan):
+    """Raises NotSound unless the plan is sound."""
+    told = soundness(plan)
+    if told != ("sound",):
+        raise NotSound(told)
 
 
 def is_staying(plan, number):

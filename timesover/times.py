@@ -15,12 +15,7 @@ def least_times(times):
     """The times, ascending and each once, that no unlike one of them is at or before."""
     if not are_times(times):
         raise BadTimes(times)
-    least = []
-    # What is at or before a time stands ahead of it in Python's order, too: so what was kept stays kept.
-    for time in sorted(set(times)):
-        if not has_at_most(least, time):
-            least.append(time)
-    return tuple(least)
+    return least_of(times)
 
 
 def common_time(one, other):
@@ -29,7 +24,7 @@ def common_time(one, other):
     check_time(other)
     if len(one) != len(other):
         raise BadDepth(len(other))
-    return tuple([max(part, far) for part, far in zip(one, other)])
+    return later_parts(one, other)
 
 
 def is_time(value):
@@ -62,7 +57,31 @@ def is_at_most(one, other):
 
 def has_at_most(times, time):
     """Whether one of times is at or before this time."""
-    for other in times:
+    # From the end, as least times are looked for in ascending order, and the last of them is the likeliest one.
+    for other in reversed(times):
         if is_at_most(other, time):
             return True
     return False
+
+
+def least_of(times):
+    """What least_times returns, of what is known to be times of one depth."""
+    least = []
+    # What is at or before a time stands ahead of it in Python's order, too: so what was kept stays kept.
+    for time in sorted(set(times)):
+        if not has_at_most(least, time):
+            least.append(time)
+    return tuple(least)
+
+
+def later_parts(one, other):
+    """What common_time returns, of what is known to be times of one depth."""
+    return tuple([max(part, far) for part, far in zip(one, other)])
+
+
+def common_times(one, other):
+    """The least times that some time of one is at or before, and some time of other as well."""
+    # A time of one that some time of other is at or before stays as it is; what it makes with others is later.
+    stays = [time for time in one if has_at_most(other, time)]
+    rises = [time for time in one if not has_at_most(other, time)]
+    return least_of([*stays, *[later_parts(time, far) for time in rises for far in other]])
