@@ -263,9 +263,9 @@ class Joined(Case):
     def test_what_are_no_rings_is_refused(self):
         right = (((1,), 2),)
         self.alike(joined_rings((right,)), right)
-        rows = (((1,), 2, 3), ((1,),), [(1,), 2], ((1,), True), ((1,), None), ((1,), "2"), (1, 2), ((True,), 2), ([1], 2),
-                ((-1,), 2), ((), 2), ((0,) * 5, 2), ((1,), (2,)), (2, (1,)), (), (((1,), 2),), 0, "ab", None)
+        rows = (((1,), 2, 3), ((1,),), [(1,), 2], ((1,), True), ((1,), None), ((1,), "2"), (1, 2), ((True,), 2),
+                ([1], 2), ((-1,), 2), ((), 2), ((0,) * 5, 2), ((1,), (2,)), (2, (1,)), (), (((1,), 2),), 0, "ab", None)
         wrongs = [(right, (row,)) for row in rows] + [((row,),) for row in rows] + [
-            right, [right], (right, None), (list(right),), (right, (((1, 1), 2),)), ({(1,): 2},), ("",), (0,), "", {}, []]
+            right, [right], (right, None), (list(right),), (right, (((1, 1), 2),)), ({(1,): 2},), ("",), (0,), "", {}]
         for wrong in list(NEVER) + wrongs:
             self.refuses(BadRings, wrong, joined_rings, wrong)

@@ -7,6 +7,7 @@ import unittest
 from timesover.bells import Bell
 from timesover.crews import Crew
 from timesover.plans import Plan
+from timesover.rules import Rule
 
 PARAMETERS = {
     "times": {
@@ -50,6 +51,21 @@ PARAMETERS = {
     "bells": {
         "due_times": "crew book place times", "joined_rings": "rings",
     },
+    "rules": {
+        "tellings_of": "rule crew script", "counts_for": "rule crew script hand heard",
+        "wrongly_over": "rule crew script hand heard", "rule_safe": "rule", "shows_rule_safe": "rule value",
+        "unsafe_script": "rule", "count_safe": "plan net",
+    },
+    "deaf": {
+        "deaf_safe": "plan deaf asked", "least_heard": "plan asked",
+    },
+    "glued": {
+        "glued_safe": "plan coarse names", "glued_counts": "plan coarse names works deeds",
+        "glued_script": "plan coarse names",
+    },
+    "aside": {
+        "counts_front": "plan counts place", "aside_front": "plan counts works place",
+    },
 }
 # For each class its file, its parameters, an object, what is set on it, its methods with their parameters.
 PLAN = Plan("place a 1")
@@ -59,6 +75,8 @@ CLASSES = {
     Crew: ("crews", "plan text", CREW, "plan text hands works", {"__eq__": "other"}),
     Bell: ("bells", "crew place", Bell(CREW, "a"), "crew place waiting told open_times",
            {"put": "time number", "ring": "book", "copy": ""}),
+    Rule: ("rules", "plan text", Rule(PLAN, "net free\nminus a now\nstay a now"), "plan text net minus stay plus",
+           {"__eq__": "other"}),
 }
 
 
