@@ -2,9 +2,7 @@
 
 import collections
 
-from support import points_of
-from timesover.plans import can_put
-from timesover.shifts import shifted
+from support import points_of, put_soon
 
 
 class History:
@@ -26,14 +24,8 @@ class History:
         hand, taken = picks.choice(self.held)
         put = []
         for _ in range(picks.randint(0, 2)):
-            lines = [line for line in self.plan.lines if line[0] == taken[0]]
-            place, time = taken
-            if lines and picks.randrange(4):
-                _, place, shift = picks.choice(lines)
-                time = shifted(shift, time)
-            at = picks.randrange(len(time))
-            point = (place, time[:at] + (time[at] + picks.randrange(2),) + time[at + 1:])
-            if can_put(self.plan, taken, point):
+            point = put_soon(picks, self.plan, taken)
+            if point is not None:
                 put.append(point)
         self.held.remove((hand, taken))
         self.held += [(picks.choice((hand, 0, 1, 2)), point) for point in put]

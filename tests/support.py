@@ -5,7 +5,8 @@ import itertools
 import unittest
 
 from timesover.errors import OverError
-from timesover.plans import Plan
+from timesover.plans import Plan, can_put
+from timesover.shifts import shifted
 from timesover.sound import soundness
 
 
@@ -179,6 +180,18 @@ def some_works(picks, plan, most, below=4):
     points = points_of(plan, below)
     works = [picks.choice(points) for _ in range(picks.randint(0, most))]
     return tuple(sorted(works + works[:picks.randint(0, 1)]))
+
+
+def put_soon(picks, plan, taken):
+    """A point by a rule that is soon behind taken, mostly along a line; None if it cannot be put for it."""
+    place, time = taken
+    lines = [line for line in plan.lines if line[0] == place]
+    if lines and picks.randrange(4):
+        _, place, shift = picks.choice(lines)
+        time = shifted(shift, time)
+    at = picks.randrange(len(time))
+    point = (place, time[:at] + (time[at] + picks.randrange(2),) + time[at + 1:])
+    return point if can_put(plan, taken, point) else None
 
 
 def enough_lines(plan):

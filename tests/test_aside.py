@@ -106,6 +106,7 @@ class Errors(Case):
             self.refuses(BadWorks, wrong, aside_front, PLAN, ((A, 1),), wrong, "a")
         for wrong in NO_NAMES:
             self.refuses(BadName, wrong, counts_front, PLAN, ((A, 1),), wrong)
+            self.refuses(BadName, wrong, counts_front, PLAN, (), wrong)
             self.refuses(BadName, wrong, aside_front, PLAN, ((A, 1),), (A,), wrong)
 
     def test_which_error_is_raised_first(self):

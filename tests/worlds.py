@@ -8,10 +8,9 @@ the package, by tables of shifts alone.
 import collections
 import copy
 
-from support import some_works
+from support import put_soon, some_works
 from timesover.books import beat, come, first_book, front, heard, over, took
 from timesover.crews import Crew
-from timesover.plans import can_put
 from timesover.shifts import shifted
 from timesover.tables import shift_table
 from timesover.times import is_before, least_times
@@ -285,14 +284,8 @@ def some_put(world, picks, taken, most):
     """What can be put for a work, by a rule: each point soon behind taken, each for some hand."""
     put = []
     for _ in range(picks.randint(0, most)):
-        lines = [line for line in world.plan.lines if line[0] == taken[0]]
-        place, time = taken[0], taken[1]
-        if lines and picks.randrange(4):
-            _, place, shift = picks.choice(lines)
-            time = shifted(shift, time)
-        at = picks.randrange(len(time))
-        point = (place, time[:at] + (time[at] + picks.randrange(2),) + time[at + 1:])
-        if can_put(world.plan, taken, point):
+        point = put_soon(picks, world.plan, taken)
+        if point is not None:
             put.append((picks.choice(sorted(world.hands)), point))
     return put
 
