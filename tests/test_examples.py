@@ -7,9 +7,8 @@ import unittest
 FOLDER = pathlib.Path(__file__).parent / "examples"
 MANY = {
     "section_4.txt": 10, "section_5.txt": 8, "section_6.txt": 10, "section_7.txt": 10, "section_8.txt": 11,
-    "section_9.txt": 7, "section_10.txt": 16, "section_11.txt": 10, "section_12.txt": 12,
-    # Without those of relays, which is not built yet.
-    "section_13.txt": 16,
+    "section_9.txt": 7, "section_10.txt": 16, "section_11.txt": 10, "section_12.txt": 12, "section_13.txt": 20,
+    "section_14.txt": 10, "section_15.txt": 10, "section_16.txt": 12, "section_17.txt": 12, "section_18.txt": 9,
 }
 
 

@@ -6,8 +6,12 @@ import unittest
 
 from timesover.bells import Bell
 from timesover.crews import Crew
+from timesover.desk import Desk
+from timesover.logs import Log
 from timesover.plans import Plan
+from timesover.relays import Net
 from timesover.rules import Rule
+from timesover.yards import Yard
 
 PARAMETERS = {
     "times": {
@@ -66,6 +70,31 @@ PARAMETERS = {
     "aside": {
         "counts_front": "plan counts place", "aside_front": "plan counts works place",
     },
+    "relays": {
+        "reached_hands": "pairs hand", "needed_pairs": "pairs",
+    },
+    "alike": {
+        "tells_alike": "one other doors_in doors_out",
+    },
+    "straight": {
+        "needless_lines": "plan", "thinned_plan": "plan", "straight_plan": "plan doors",
+    },
+    "cuts": {
+        "works_behind": "crew deeds", "cut_numbers": "crew deeds cut", "cut_lacks": "crew deeds cut",
+        "cut_front": "crew deeds cut place", "surely_gone": "crew deeds cut", "sharp_front": "crew deeds cut place",
+        "fewest_more": "crew deeds cut", "shows_fewest_more": "crew deeds cut value", "whole_cuts": "crew deeds",
+    },
+    "logs": {
+        "log_works": "log many", "log_counts": "log many hand", "is_lacking": "log many hand", "judged_log": "log",
+        "shows_judged_log": "log value", "first_true": "log place time", "first_exact": "log hand place time",
+        "log_lags": "log",
+    },
+    "journals": {
+        "journal": "yard", "read_journal": "text",
+    },
+    "desk": {
+        "desk_text": "desk", "read_desk": "text",
+    },
 }
 # For each class its file, its parameters, an object, what is set on it, its methods with their parameters.
 PLAN = Plan("place a 1")
@@ -77,6 +106,19 @@ CLASSES = {
            {"put": "time number", "ring": "book", "copy": ""}),
     Rule: ("rules", "plan text", Rule(PLAN, "net free\nminus a now\nstay a now"), "plan text net minus stay plus",
            {"__eq__": "other"}),
+    Net: ("relays", "pairs", Net(()), "pairs hands tellers",
+          {"tell": "hand", "carry": "one other", "heard": "hand", "on_way": "one other", "copy": ""}),
+    Yard: ("yards", "crew", Yard(CREW), "crew hands works letters steps",
+           {"deed": "hand taken put", "give": "hand point other", "arrive": "hand point", "beat": "hand",
+            "hear": "hand other", "again": "hand other number", "catch_up": "hand", "come": "hand number",
+            "fall": "hand", "go": "hand", "settle": "", "step": "value", "counts": "hand", "lacks": "hand",
+            "unheard": "hand", "front": "hand place", "over": "hand place time", "true_front": "place", "copy": "",
+            "__len__": ""}),
+    Log: ("logs", "crew text", Log(CREW, "over 0 a 0"), "crew text rows", {"__len__": "", "__eq__": "other"}),
+    Desk: ("desk", "", Desk(), "names",
+           {"begin": "name text", "branch": "name other", "drop": "name", "lead": "name value", "undo": "name",
+            "redo": "name", "mark": "name word", "marks": "name", "back": "name word", "yard_of": "name",
+            "all_steps": "name", "__len__": "", "__contains__": "value"}),
 }
 
 

@@ -14,6 +14,9 @@ FOLDER = pathlib.Path(__file__).parent.parent / "timesover"
 FILES = sorted(FOLDER.glob("*.py"))
 BUILTINS = set("""len range enumerate zip min max sum abs sorted reversed int str bool list tuple dict set isinstance
 ord repr any all divmod ValueError""".split())
+# Of these functions and methods what they return is iterated on the spot, by a loop or one of these.
+ONCE = {"zip", "enumerate", "reversed", "range", "items", "keys", "values"}
+TAKERS = {"list", "tuple", "dict", "sorted", "sum", "any", "all", "enumerate", "zip", "min", "max"}
 METHODS = set("""append clear copy count endswith extend find get index insert isalnum isalpha isdigit islower isspace
 isupper items join keys ljust lower lstrip partition pop remove replace reverse rfind rjust rpartition rsplit rstrip
 setdefault split splitlines startswith strip update upper values zfill bit_length""".split())
@@ -22,7 +25,7 @@ namedtuple NamedTuple TypedDict TYPE_CHECKING abstractmethod register mro elemen
 with_traceback add_note""".split())
 BARRED = (
     ast.AsyncFunctionDef, ast.AsyncFor, ast.AsyncWith, ast.Await, ast.Global, ast.Nonlocal, ast.Import, ast.With,
-    ast.Try, ast.Match, ast.Yield, ast.YieldFrom, ast.Lambda, ast.JoinedStr, ast.AnnAssign, ast.NamedExpr, ast.Div,
+    ast.Match, ast.Yield, ast.YieldFrom, ast.Lambda, ast.JoinedStr, ast.AnnAssign, ast.NamedExpr, ast.Div,
     ast.Is, ast.IsNot, ast.GeneratorExp, ast.SetComp, ast.Set, ast.Pow, ast.Mod,
 )
 
@@ -30,6 +33,17 @@ BARRED = (
 def trees():
     """Each file of the package with its tree."""
     return [(path, ast.parse(path.read_text())) for path in FILES]
+
+
+def called(node):
+    """The name of the function, or of the method, that is called; none if the node is no call."""
+    return getattr(node.func, "id", getattr(node.func, "attr", "")) if isinstance(node, ast.Call) else ""
+
+
+def own_methods():
+    """The methods of all classes of the package."""
+    return {row.name for _, tree in trees() for node in tree.body if isinstance(node, ast.ClassDef)
+            for row in node.body if isinstance(row, ast.FunctionDef)}
 
 
 def bound_names(tree):
@@ -157,16 +171,45 @@ class Code(unittest.TestCase):
             self.assertIsNone(re.search(r"dataclass|overload|contextmanager|_wall|_WallAttr", path.read_text()))
 
     def test_methods_of_builtin_values(self):
+        known = METHODS | own_methods()
         for path, tree in trees():
             for node in ast.walk(tree):
                 if isinstance(node, ast.Call) and isinstance(node.func, ast.Attribute):
-                    self.assertIn(node.func.attr, METHODS, path.name)
+                    self.assertIn(node.func.attr, known, path.name)
                     self.assertEqual(node.keywords, [])
 
-    def test_sets_stand_in_sorted_alone(self):
+    def test_sets_stand_in_sorted_and_len_alone(self):
         for path, tree in trees():
-            inside = [node.args[0] for node in ast.walk(tree)
-                      if isinstance(node, ast.Call) and getattr(node.func, "id", "") == "sorted" and not node.keywords]
+            inside = [node.args[0] for node in ast.walk(tree) if called(node) in ("sorted", "len") and not node.keywords]
             for node in ast.walk(tree):
-                if isinstance(node, ast.Call) and getattr(node.func, "id", "") == "set":
+                if called(node) == "set":
                     self.assertIn(node, inside, path.name)
+
+    def test_what_is_iterated_at_once(self):
+        for path, tree in trees():
+            heads = [node.iter for node in ast.walk(tree) if isinstance(node, (ast.For, ast.comprehension))]
+            heads += [node.args[0] for node in ast.walk(tree) if called(node) in TAKERS and node.args]
+            for node in ast.walk(tree):
+                if called(node) in ONCE:
+                    self.assertIn(node, heads, (path.name, node.lineno))
+
+    def test_own_errors_alone_are_caught(self):
+        own = {row.name for path, tree in trees() if path.name == "errors.py"
+               for row in tree.body if isinstance(row, ast.ClassDef)}
+        for path, tree in trees():
+            for node in ast.walk(tree):
+                if isinstance(node, ast.Try):
+                    self.assertEqual((node.orelse, node.finalbody), ([], []))
+                if isinstance(node, ast.ExceptHandler):
+                    caught = node.type.elts if isinstance(node.type, ast.Tuple) else [node.type]
+                    self.assertLessEqual({name.id for name in caught}, own, path.name)
+                if isinstance(node, ast.Raise):
+                    self.assertIn(called(node.exc), own, path.name)
+
+    def test_no_name_is_a_method_and_an_attribute(self):
+        stored = {node.attr for _, tree in trees() for node in ast.walk(tree)
+                  if isinstance(node, ast.Attribute) and isinstance(node.ctx, ast.Store)}
+        self.assertFalse(stored & own_methods())
+        self.assertFalse(stored & (METHODS | {"sort", "args", "encode", "decode", "hex", "fromhex", "format"}))
+        read = {node.attr for _, tree in trees() for node in ast.walk(tree) if isinstance(node, ast.Attribute)}
+        self.assertLessEqual(read, stored | own_methods() | METHODS)

@@ -11,13 +11,11 @@ this ends at a point with a count above 0, which could come to the first one. So
 counted one could come; and what is heard brings no work to which none could come that was counted ahead of it.
 """
 
-from timesover.crews import check_hand, deed_changes
+from timesover.crews import MOST_HANDS, check_hand, deed_changes
 from timesover.plans import check_place, check_time_at
 from timesover.reach import front_by
 from timesover.sums import summed
 from timesover.times import has_at_most
-
-MOST_HANDS = 10
 
 
 def first_book(crew, hand):

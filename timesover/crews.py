@@ -1,13 +1,16 @@
 """Crews: hands that run a sound plan, the works that they hold at the beginning, and their deeds."""
 
-from timesover.basics import is_integer, is_numeral
+from timesover.basics import MOST_FIGURES, is_integer, is_numeral
 from timesover.errors import BadCrew, BadDeeds, BadHand, BadPut
-from timesover.plans import are_works, can_put, check_point, depth_of, is_point
+from timesover.plans import are_works, can_put, check_point, is_point
 from timesover.reach import tables_from
 from timesover.sound import check_sound
 from timesover.sums import summed
+from timesover.texts import told_point
 
 HANDS = ("2", "3", "4", "5", "6")
+# How many hands there ever are, those that come later too.
+MOST_HANDS = 10
 MOST_WORKS = 40
 MOST_PUT = 12
 
@@ -42,19 +45,16 @@ def crew_rows(plan, text):
     works = []
     for number, row in enumerate(rows[1:], start=2):
         words = row.split(" ")
-        if len(works) == MOST_WORKS or not is_work_row(plan, hands, words):
+        point = told_point(plan, words[2:], MOST_FIGURES)
+        if len(works) == MOST_WORKS or words[0] != "work" or point is None or not is_hand_word(words[1], hands):
             raise BadCrew(number)
-        works.append((int(words[1]), (words[2], tuple([int(part) for part in words[3:]]))))
+        works.append((int(words[1]), point))
     return hands, tuple(works)
 
 
-def is_work_row(plan, hands, words):
-    """Whether the words are those of a work that one of so many hands holds."""
-    if len(words) < 3 or words[0] != "work" or words[2] not in plan:
-        return False
-    if len(words) - 3 != depth_of(plan, words[2]) or not all([is_numeral(part) for part in words[3:]]):
-        return False
-    return is_numeral(words[1]) and int(words[1]) < hands
+def is_hand_word(word, many):
+    """Whether a word of a text is the number of one of so many hands."""
+    return is_numeral(word) and int(word) < many
 
 
 def check_deed(plan, taken, put):

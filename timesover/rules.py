@@ -8,6 +8,7 @@ from timesover.reach import does_one_come
 from timesover.shifts import time_behind
 from timesover.sound import check_sound
 from timesover.sums import summed
+from timesover.texts import point_words
 from timesover.worded import WORDS, is_worded_put, minus_word, played, put_word
 
 ORDERED = "ordered"
@@ -104,8 +105,7 @@ def unsafe_script(rule):
     if told == SAFE:
         return None
     _, taken, point, by = told
-    place, time = taken
-    text = "hands 2\nwork 0 " + " ".join([place, *[str(part) for part in time]])
+    text = "hands 2\nwork 0 " + point_words(taken)
     script = ((0, taken, ((point, by),)), (0,))
     tellings = tellings_of(rule, Crew(rule.plan, text), script)
     # Who hears no more than that the work was taken knows of no work at all.
