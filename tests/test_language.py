@@ -180,7 +180,8 @@ class Code(unittest.TestCase):
 
     def test_sets_stand_in_sorted_and_len_alone(self):
         for path, tree in trees():
-            inside = [node.args[0] for node in ast.walk(tree) if called(node) in ("sorted", "len") and not node.keywords]
+            inside = [node.args[0] for node in ast.walk(tree)
+                      if called(node) in ("sorted", "len") and not node.keywords]
             for node in ast.walk(tree):
                 if called(node) == "set":
                     self.assertIn(node, inside, path.name)
