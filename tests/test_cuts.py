@@ -235,6 +235,11 @@ class Fronts(Case):
         self.alike(sharp_front(crew, deeds, (0, 1), "a"), ((1, 2), (2, 1)))
         self.alike(sharp_front(crew, deeds, (0, 1), "b"), ((3,),))
 
+    def test_a_gone_point_of_depth_four(self):
+        crew = Crew(Plan("place a 4\nplace b 1\nline a b +0"), "hands 2\nwork 0 a 1 2 3 4")
+        deeds = ((0, ("a", (1, 2, 3, 4)), (("b", (1,)),)), (1, ("b", (1,)), ()))
+        self.alike(sharp_front(crew, deeds, (0, 1), "a"), ((1, 2, 3, 5), (1, 2, 4, 4), (1, 3, 3, 4), (2, 2, 3, 4)))
+
 
 class Cuts(Case):
 

@@ -87,7 +87,9 @@ class Rows(Case):
         self.alike(log.text.split("\n")[0], "deed 0 put 3 put place 3 put put 4 put put 5")
         for wrong in ("deed 0 put 3 put", "deed 0 put 3 put put", "deed 0 put put 3", "deed 0 put 3 put 4",
                       "deed 0 put 3 put put 4 put", "deed 0 put 3 put put 4 5", "deed 0 put 3 4", "deed 0 put",
-                      "deed 0 put 3 put hands 3", "deed 0 put 3 place 3", "deed 0 put 3 put put 5 put put 4"):
+                      "deed 0 put 3 put hands 3", "deed 0 put 3 place 3", "deed 0 put 3 put put 5 put put 4",
+                      "deed 0 put 3 x place 3", "deed 0 put 3 : place 3", "deed 0 put 3 place place 3",
+                      "deed 0 put 3 put place 3 x put 4"):
             self.refuses(BadLog, 1, Log, crew, wrong)
 
     def test_equal_logs(self):

@@ -203,7 +203,8 @@ class ThereAndBack(Case):
 
     def test_a_desk_that_goes_back_and_on(self):
         desk = Desk()
-        rows = ["place a 1", "line a a +1", "hands 2", "work 0 a 0", "deed 0 a 0 : 1 a 3", "beat 0", "hear 1 0", "beat 1"]
+        rows = ["place a 1", "line a a +1", "hands 2", "work 0 a 0", "deed 0 a 0 : 1 a 3", "beat 0", "hear 1 0",
+                "arrive 1 a 3"]
         desk.begin("a", "\n".join(rows))
         desk.mark("a", "end")
         before = desk_text(desk)
@@ -257,9 +258,9 @@ class Equal(Case):
         net = Net(((0, 1), (1, 2)))
         return [log.rows, judged_log(log), log_lags(log), log_works(log, len(log)), works_behind(crew, deeds),
                 cut_numbers(crew, deeds, cut), surely_gone(crew, deeds, cut), journal(yard), yard.works,
-                yard.unheard(1), [yard.copy().front(hand, plan.places[0][0]) for hand in yard.hands], needless_lines(plan),
-                thinned_plan(plan).text, soundness(plan), net.tell(1), net.carry(1, 2), net.heard(2),
-                fewest_more(crew, deeds[:6], (0,) * crew.hands), whole_cuts(crew, deeds[:6])]
+                yard.unheard(1), [yard.copy().front(hand, plan.places[0][0]) for hand in yard.hands],
+                needless_lines(plan), thinned_plan(plan).text, soundness(plan), net.tell(1), net.carry(1, 2),
+                net.heard(2), fewest_more(crew, deeds[:6], (0,) * crew.hands), whole_cuts(crew, deeds[:6])]
 
     def test_what_is_asked_changes_nothing(self):
         crew = Crew(Plan("place a 1\nline a a +1"), "hands 2\nwork 0 a 0")

@@ -1,10 +1,14 @@
 """Yards (section 16)."""
 
 import collections
+import contextlib
+from unittest import mock
 
 from beside import MORE_KINDS, Beside, do_any_step, played_yard, shown
 from late import late_books
 from support import NEVER, NO_NAMES, NO_POINTS, NO_TIMES_AT_B, Case, Picks, sound_plans
+from timesover import yards
+from timesover.books import heard
 from timesover.crews import Crew
 from timesover.errors import (
     BadHand, BadName, BadNumber, BadPoint, BadPut, BadStep, BadTime, HasWork, NoLetter, NoWork,
@@ -75,6 +79,55 @@ class Scripts(Case):
             self.alike([world.yard.unheard(7), world.yard.counts(7)], [(), ((("b", (1, 1)), 1),)])
             world.again(7, 0, 0)
             world.hear(1, 0)
+
+    def test_which_books_are_led_on_and_in_which_sequence(self):
+        """As far as the books of the package do not tell: their functions are watched."""
+        world = Beside(self, CREW)
+        for hand, other in ((2, 9), (0, 7), (1, 8)):
+            world.come(hand, other)
+        world.deed(2, ("b", (1, 1)), [(9, ("b", (1, 2)))])
+        world.deed(0, ("a", (0,)), [(0, ("a", (1,))), (7, ("a", (2,)))])
+        world.deed(0, ("a", (1,)), [])
+        for letter in list(world.letters):
+            world.arrive(letter)
+            world.deed(*letter, [])
+        yard = world.yard
+        with mock.patch("timesover.yards.heard", side_effect=heard) as listens:
+            yard.catch_up(8)
+            self.alike([call.args[2] for call in listens.call_args_list], [0, 0, 2, 7, 9])
+            yard.again(8, 2, 0)
+            self.alike([call.args[2] for call in listens.call_args_list][5:], [2])
+            yard.hear(8, 0)
+            self.alike(listens.call_count, 6)
+            yard.hear(9, 0)
+            self.alike([call.args[2] for call in listens.call_args_list][6:], [0])
+
+    def test_one_beat_more_behind_one_that_told_something(self):
+        for late, wanted in ((True, 2), (False, 1)):
+            with late_books() if late else contextlib.nullcontext():
+                yard = Yard(CREW)
+                yard.deed(0, ("a", (0,)), ())
+                with mock.patch("timesover.yards.beat", side_effect=yards.beat) as beats:
+                    yard.go(0)
+                self.alike(beats.call_count, wanted)
+
+    def test_a_copy_goes_on_as_the_yard_does(self):
+        for books in (contextlib.nullcontext, late_books):
+            with books():
+                for world, picks in worlds(self, 175, 16):
+                    for _ in range(30):
+                        do_any_step(world, picks)
+                    copies = [world.yard.copy() for _ in range(3)]
+                    for hand in world.yard.hands:
+                        for yard in (world.yard, *copies[:2]):
+                            yard.fall(hand)
+                        copies[2].step(("fall", hand))
+                    for yard in copies:
+                        self.alike(shown(yard), shown(world.yard))
+                        yard.settle()
+                    world.yard.settle()
+                    for yard in copies:
+                        self.alike(shown(yard), shown(world.yard))
 
     def test_a_copy_goes_on_by_itself(self):
         for world, picks in worlds(self, 172, 30):

@@ -92,7 +92,7 @@ def check_history(crew, value):
 
 def is_hand_deed(crew, value):
     """Whether any value is a deed of one of the crew's hands."""
-    if not isinstance(value, tuple) or len(value) != 3 or not is_deed(crew.plan, value[1:]):
+    if not isinstance(value, tuple) or not is_deed(crew.plan, value[1:]):
         return False
     return is_integer(value[0]) and 0 <= value[0] < crew.hands
 

@@ -200,9 +200,7 @@ def read_head(rows, at, begin, ahead):
 
 
 def read_steps(rows, ahead):
-    """The yard of the journal that stands behind so many of the rows."""
-    if len(rows) == ahead:
-        raise BadDesk(ahead + 1)
+    """The yard of the journal that stands behind so many of the rows; no row is as good as an empty one."""
     try:
         return read_journal("\n".join(rows[ahead:]))
     except BadJournal as error:

@@ -23,8 +23,7 @@ def read_journal(text):
     rows = text.split("\n")
     begun = first_other(rows, 0, ("place", "line"))
     plan = read_plan(rows[:begun])
-    if begun == len(rows):
-        raise BadJournal(len(rows) + 1)
+    # Where nothing stands behind the plan no crew can be read, and what is told is the line behind the last one.
     ahead = first_other(rows, begun + 1, ("work",))
     yard = Yard(read_crew(plan, rows[begun:ahead], begun))
     for number, row in enumerate(rows[ahead:], start=ahead + 1):
@@ -64,12 +63,9 @@ def read_crew(plan, rows, ahead):
 
 
 def do_row(yard, row, number):
-    """Does the step that the row with this number tells."""
-    step = told_step(yard.crew.plan, row)
-    if step is None:
-        raise BadJournal(number)
+    """Does the step that the row with this number tells; what is told of a row of another form is no step."""
     try:
-        yard.step(step)
+        yard.step(told_step(yard.crew.plan, row))
     except OverError:
         raise BadJournal(number)
 

@@ -98,7 +98,7 @@ def hands_of(pairs):
 
 def neighbours(pairs, hand):
     """The hands that are in a pair with this one, ascending."""
-    return sorted([one if other == hand else other for one, other in pairs if hand in (one, other)])
+    return [one if other == hand else other for one, other in pairs if hand in (one, other)]
 
 
 def check_pairs(value):
