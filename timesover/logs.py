@@ -185,8 +185,8 @@ def wrong_row(log, scene, number, row):
         elder = first_over(log.rows[:number], row)
         if elder is not None:
             return ("back", number, elder)
-    is_exact = is_lacking_for(scene, hand) or is_over_by_counts(scene, hand, (place, time)) == (word == OVER)
-    return None if is_exact else ("inexact", number)
+    is_right = is_lacking_for(scene, hand) or is_over_by_counts(scene, hand, (place, time)) == (word == OVER)
+    return None if is_right else ("inexact", number)
 
 
 def first_over(rows, row):
